@@ -1,0 +1,1 @@
+"""Stilewalks: walkers' scripts in halls whose passages count."""

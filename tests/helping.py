@@ -1,0 +1,99 @@
+"""What all tests use: calls by position and by name, comparisons that tell kinds apart, wrong values."""
+
+import unittest
+
+from stilewalks import errors
+
+INTERFACE = {
+    "scripts": {
+        "is_room": ("r", "thing"),
+        "is_row": ("r", "thing"),
+        "is_script": ("r", "thing"),
+        "end_of": ("r", "script"),
+        "length_of": ("r", "script"),
+        "script_text": ("r", "script"),
+        "row_of": ("r", "script"),
+        "read_script": ("r", "text"),
+        "row_end": ("r", "row"),
+        "undone_row": ("r", "row"),
+        "reduced_row": ("r", "row"),
+    },
+    "shows": {
+        "is_show": ("r", "thing"),
+        "show_of": ("r", "row"),
+        "moved": ("r", "show", "room"),
+        "plus": ("r", "one", "other"),
+        "times": ("r", "number", "show"),
+        "number_in": ("r", "show", "room", "i"),
+        "left_over": ("r", "show"),
+        "rows_alike": ("r", "one", "other"),
+    },
+}
+PARAMETERS = {name: parameters for part in INTERFACE.values() for name, parameters in part.items()}
+
+
+def deep(value, times):
+    """A value within so many tuples."""
+    for _ in range(times):
+        value = (value,)
+    return value
+
+
+# None of these is a room, a row, a script or a show, of however many directions.
+NOTHING = (
+    None, True, False, 0, 5, -5, 10 ** 39, -10 ** 39, "", " ", "1", "row", "()", "a" * 2000, "\n",
+    [], [1], [0], [0, 0], [0, 0, 0], [0, 0, 0, 0], ["row"], ["row", 1], ["again", 2, 1],
+    [((0,), 1, 1)], [[[0], 1, 1]], {}, {"row": 1}, {1: 1}, {(): ()}, {(0,): 1},
+    (None,), (True,), (False,), (True, True), (0, False), (0, 0, True), (0, 0, 0, True), ("",), ("1",), ("Row",),
+    ((),), ([],), ({},), (([],),), ((None,),), ([1],), ((1,),), ((0, 0),), ("row", None), ("row", True), ("row", ()),
+    ("row", []), ("row", [1]), ("row", ["row"]), ("row", {}), ("row", "row"), ("row", "1"), ("row", (1,)),
+    (1, "row"), ("row", ("row", ("row", ("row", False)))),
+    deep(1, 12), deep((), 11), deep("row", 12), deep([deep({1: (True, [None])}, 4)], 4),
+    tuple([None] * 2999), ("row",) + tuple([1] * 2000) + (None,), tuple([1] * 2000) + (True,),
+    (0, 0, 0, 0, 0), (5,) * 5, (1, -1, 0, "1"), (1, -1, None),
+)
+
+# Values as parameters of errors: pairs of them are equal in Python, though they are of unlike kinds.
+ANY = NOTHING + (1, -1, (), (1,), (0,), (1, 0), "thing", ["thing"], 3, (3, "x"), (((0,), 1, 1),), ("row", 1))
+
+
+class Case(unittest.TestCase):
+    """A test case whose comparisons tell True from 1 and lists from tuples."""
+
+    def same(self, one, other):
+        self.assertEqual(repr(one), repr(other))
+        self.assertEqual(one, other)
+
+    def ways(self, function, given):
+        """All ways to call: the first arguments by position, the others by name, also in reverse."""
+        names = PARAMETERS[function.__name__]
+        self.assertEqual(len(names), len(given))
+        for k in range(len(given) + 1):
+            named = list(zip(names, given))[k:]
+            yield given[:k], dict(named)
+            yield given[:k], dict(reversed(named))
+
+    def told(self, function, *given):
+        """What a call tells, the same in all ways; it leaves its arguments as they are."""
+        before = repr(given)
+        result = function(*given)
+        for placed, named in self.ways(function, given):
+            self.same(function(*placed, **named), result)
+        self.assertEqual(repr(given), before)
+        return result
+
+    def tells(self, expected, function, *given):
+        self.same(self.told(function, *given), expected)
+
+    def refuses(self, expected, function, *given):
+        """A call raises an error that is equal to the expected one."""
+        before = repr(given)
+        for placed, named in self.ways(function, given):
+            with self.assertRaises(errors.StileError) as caught:
+                function(*placed, **named)
+            self.assertIs(type(caught.exception), type(expected))
+            self.same(vars(caught.exception), vars(expected))
+            for name, value in vars(expected).items():
+                if any(value is argument for argument in given):
+                    self.assertIs(getattr(caught.exception, name), value)
+        self.assertEqual(repr(given), before)

@@ -1,0 +1,72 @@
+"""The form of the package: its files, their sizes and characters, what they import, and the interface."""
+
+import ast
+import os
+import unittest
+
+from tests.helping import INTERFACE
+
+FOLDER = os.path.join(os.path.dirname(os.path.dirname(os.path.abspath(__file__))), "stilewalks")
+LIBRARY = ("__future__", "heapq", "math", "itertools", "collections")
+BARRED = (ast.AsyncFunctionDef, ast.Global, ast.Div, ast.Import, ast.Await, ast.AsyncFor, ast.AsyncWith)
+
+
+class Form(unittest.TestCase):
+
+    def setUp(self):
+        self.files = {}
+        for name in sorted(os.listdir(FOLDER)):
+            if name != "__pycache__":
+                self.assertRegex(name, r"\A[a-z_][a-z0-9_]*\.py\Z")
+                with open(os.path.join(FOLDER, name), encoding="utf-8", newline="") as file:
+                    self.files[name[:-3]] = file.read()
+        self.trees = {name: ast.parse(text) for name, text in self.files.items()}
+
+    def test_files(self):
+        self.assertIn("__init__", self.files)
+        for name, text in self.files.items():
+            self.assertTrue(all(letter == "\n" or " " <= letter <= "~" for letter in text), name)
+            rows = text.split("\n")
+            self.assertLessEqual(len(rows), 400, name)
+            self.assertEqual([row for row in rows if len(row) > 120], [], name)
+
+    def test_functions(self):
+        for name, tree in self.trees.items():
+            for node in ast.walk(tree):
+                self.assertNotIsInstance(node, BARRED, name)
+                if isinstance(node, ast.FunctionDef):
+                    self.assertLessEqual(node.end_lineno - node.lineno + 1, 40, (name, node.name))
+                    self.assertEqual(node.decorator_list, [], (name, node.name))
+                if isinstance(node, ast.Constant):
+                    self.assertNotIsInstance(node.value, (float, complex), name)
+
+    def test_imports(self):
+        for name, tree in self.trees.items():
+            for node in ast.walk(tree):
+                if isinstance(node, ast.ImportFrom):
+                    self.assertIn(node, tree.body, name)
+                    self.assertEqual(node.level, 0, name)
+                    own = node.module.startswith("stilewalks.") and node.module[11:] in self.files
+                    self.assertTrue(own or node.module in LIBRARY, (name, node.module))
+                    self.assertTrue(all(alias.asname is None and alias.name != "*" for alias in node.names), name)
+                    if own:
+                        self.assertEqual([alias.name for alias in node.names if alias.name not in self.defined(node.module[11:])], [])
+
+    def defined(self, name):
+        """The names that a file defines itself."""
+        nodes = self.trees[name].body
+        made = [node.name for node in nodes if isinstance(node, (ast.FunctionDef, ast.ClassDef))]
+        return made + [target.id for node in nodes if isinstance(node, ast.Assign) for target in node.targets]
+
+    def test_interface(self):
+        for name, functions in INTERFACE.items():
+            found = {node.name: node.args for node in self.trees[name].body if isinstance(node, ast.FunctionDef)}
+            for function, parameters in functions.items():
+                arguments = found[function]
+                self.assertEqual(tuple(argument.arg for argument in arguments.args), parameters, function)
+                self.assertEqual((arguments.posonlyargs, arguments.kwonlyargs, arguments.defaults), ([], [], []))
+                self.assertEqual((arguments.vararg, arguments.kwarg), (None, None))
+
+
+if __name__ == "__main__":
+    unittest.main()
