@@ -26,6 +26,11 @@ def room_plus(one, other):
     return tuple([a + b for a, b in zip(one, other)])
 
 
+def room_less(one, other):
+    """A room with another one taken away, item by item."""
+    return tuple([a - b for a, b in zip(one, other)])
+
+
 def room_times(number, room):
     """A room with each item multiplied by an integer."""
     return tuple([number * item for item in room])
@@ -36,3 +41,8 @@ def neighbour(room, step):
     at = abs(step) - 1
     item = room[at] + 1 if step > 0 else room[at] - 1
     return room[:at] + (item,) + room[at + 1:]
+
+
+def is_ahead(room):
+    """Whether the first item of a room that is not 0 is above 0."""
+    return room > (0,) * len(room)

@@ -62,6 +62,11 @@ def moved(r, show, room):
     check_show(r, show)
     if not is_room(r, room):
         raise BadRoom(room)
+    return moved_by(show, room)
+
+
+def moved_by(show, room):
+    """What is known to be a show, moved by a room."""
     return tuple([(room_plus(place, room), i, number) for place, i, number in show])
 
 
@@ -69,9 +74,16 @@ def plus(r, one, other):
     """The sum of two shows."""
     check_show(r, one)
     check_show(r, other)
+    return plus_times(one, 1, other)
+
+
+def plus_times(one, many, other):
+    """What is known to be a show, plus another one multiplied by an integer."""
     numbers = {}
-    for room, i, number in one + other:
+    for room, i, number in one:
         add_number(numbers, (room, i), number)
+    for room, i, number in other:
+        add_number(numbers, (room, i), many * number)
     return show_with(numbers)
 
 

@@ -28,6 +28,51 @@ INTERFACE = {
         "left_over": ("r", "show"),
         "rows_alike": ("r", "one", "other"),
     },
+    "quotients": {
+        "quotient_of": ("r", "script", "i"),
+        "quotient_holds": ("r", "script", "i", "thing"),
+        "number_at": ("r", "script", "room", "i"),
+    },
+    "alike": {
+        "are_alike": ("r", "one", "other"),
+        "judge_alike": ("r", "one", "other"),
+        "alike_holds": ("r", "one", "other", "thing"),
+        "alike_in": ("r", "one", "other", "hall"),
+    },
+    "rolled": {
+        "is_hall": ("thing",),
+        "rolled_show": ("r", "script", "hall"),
+        "parting_hall": ("r", "one", "other"),
+        "odd_widths": ("r", "one", "other", "figures"),
+    },
+    "built": {
+        "judge_show": ("r", "show"),
+        "show_holds": ("r", "show", "thing"),
+        "is_balanced": ("r", "thing"),
+        "row_for": ("r", "show"),
+        "pieces_of": ("r", "show"),
+    },
+    "heights": {
+        "is_heights": ("thing",),
+        "heights_of": ("show",),
+        "show_of_heights": ("heights",),
+        "area_of": ("show",),
+        "square_row": ("room",),
+    },
+    "led": {
+        "rolled_along": ("r", "show", "d"),
+        "first_room": ("r", "room", "d"),
+        "is_led": ("r", "one", "other"),
+        "judge_led": ("r", "one", "other"),
+        "led_holds": ("r", "one", "other", "thing"),
+        "leading_rooms": ("r", "one", "other"),
+    },
+    "parts": {
+        "judge_part": ("r", "row", "n"),
+        "part_holds": ("r", "row", "n", "thing"),
+        "part_of": ("r", "row", "n"),
+        "root_of": ("r", "row"),
+    },
 }
 PARAMETERS = {name: parameters for part in INTERFACE.values() for name, parameters in part.items()}
 
@@ -52,6 +97,42 @@ NOTHING = (
     tuple([None] * 2999), ("row",) + tuple([1] * 2000) + (None,), tuple([1] * 2000) + (True,),
     (0, 0, 0, 0, 0), (5,) * 5, (1, -1, 0, "1"), (1, -1, None),
 )
+
+def listed(thing):
+    """Values that are written like a tuple, but have a list instead of one of the tuples in them."""
+    if isinstance(thing, tuple):
+        yield list(thing)
+        for k, part in enumerate(thing):
+            for other in listed(part):
+                yield thing[:k] + (other,) + thing[k + 1:]
+
+
+def near_misses(chance, thing, many):
+    """Values that come from a tuple by changing, leaving out, repeating or exchanging some part of it."""
+    made = list(listed(thing))[:40] + [thing + (None,), thing + thing[-1:], (thing,), thing[:-1], thing[1:], thing[::-1]]
+    return made + [changed(chance, thing) for _ in range(many)]
+
+
+def changed(chance, thing):
+    """A value with one part otherwise, somewhere in it."""
+    if isinstance(thing, tuple) and thing and chance.random() < 0.85:
+        k = chance.randrange(len(thing))
+        way = chance.randrange(8)
+        if way == 0:
+            return thing[:k] + thing[k + 1:]
+        if way == 1:
+            return thing[:k + 1] + thing[k:]
+        if way == 2:
+            j = chance.randrange(len(thing))
+            parts = list(thing)
+            parts[j], parts[k] = parts[k], parts[j]
+            return tuple(parts)
+        return thing[:k] + (changed(chance, thing[k]),) + thing[k + 1:]
+    if isinstance(thing, int) and not isinstance(thing, bool) and chance.random() < 0.9:
+        others = [thing + 1, thing - 1, -thing, thing + 2, 2 * thing, 0, 1]
+        return chance.choice(others + [thing == 1, thing != 0, str(thing), None, (thing,), 10 ** 39])
+    return chance.choice(NOTHING[:40] + (1, -1, 2, (), (0,), (0, 0), (1,), ((0, 0), 1), [thing], (thing,)))
+
 
 # Values as parameters of errors: pairs of them are equal in Python, though they are of unlike kinds.
 ANY = NOTHING + (1, -1, (), (1,), (0,), (1, 0), "thing", ["thing"], 3, (3, "x"), (((0,), 1, 1),), ("row", 1))

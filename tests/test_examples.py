@@ -31,6 +31,71 @@ SHOWS = """
 raises BadPassage(((0,), 2))
 """
 
+QUOTIENTS = """
+>>> from stilewalks.quotients import number_at, quotient_holds
+>>> far = 10 ** 30
+>>> script = ('again', far, ('row', 1, 2))
+>>> [quotient_holds(2, script, 1, ((((0, 0), 1), ((far, far), -1)), ((1, 1),))), quotient_holds(2, script, 1, ((((0, 0), 1),), ((1, 1),))), number_at(2, script, (5, 5), 1), number_at(2, script, (5, 4), 1), number_at(2, script, (far, far - 1), 2), number_at(2, script, (far + 1, far), 2)]
+[True, False, 1, 0, 1, 0]
+>>> from stilewalks.quotients import number_at, quotient_holds
+>>> nest = ('again', 3, ('row', ('again', 4, 1), -1))
+>>> [number_at(1, nest, (3,), 1), number_at(1, nest, (9,), 1), quotient_holds(1, ('row', 1, 1), 1, ((((0,), 1), ((1,), 1)), ())), quotient_holds(1, ('row', 1, 1), 1, ((((0,), 1), ((2,), -1)), ((1,),)))]
+[1, 0, True, True]
+"""
+
+ALIKE_AND_ROLLED = """
+>>> from stilewalks.alike import alike_holds, are_alike, judge_alike
+>>> far = 10 ** 30
+>>> two, one = ('again', far, ('row', 1, 1)), ('again', 2 * far, 1)
+>>> [are_alike(1, two, one), judge_alike(1, one, 1)[0], alike_holds(2, ('row', 1, 2), ('row', 2, 1), ('stile', (0, 0), 1, 1, 0)), alike_holds(2, ('row', 1, 2), ('row', 2, 1), ('alike',)), judge_alike(1, 1, 1)]
+[True, 'ends', True, False, ('alike',)]
+>>> from stilewalks.alike import alike_in
+>>> [alike_in(1, ('again', 3, 1), 1, (1, 2)), alike_in(1, ('again', 3, 1), 1, (1, 0)), alike_in(2, ('row', 1, 2), ('row', 2, 1), (0, 2))]
+[True, False, False]
+>>> from stilewalks.rolled import rolled_show
+>>> [rolled_show(1, ('again', 7, 1), (3, 0)), rolled_show(1, ('again', 7, 1), (3, 2)), rolled_show(2, ('row', 1, 1, 2), (2, 2))]
+[(((0,), 1, 3), ((1,), 1, 2), ((2,), 1, 2)), (((0,), 1, 1),), (((0, 0), 1, 1), ((0, 0), 2, 1), ((1, 0), 1, 1))]
+>>> from stilewalks.rolled import odd_widths, parting_hall
+>>> [parting_hall(2, (1, 2), (2, 1)), parting_hall(1, (1, 1, 1), (1,)), parting_hall(1, (1, -1), ()), odd_widths(2, (1, 2), (2, 1), 0), odd_widths(1, (1, 1, 1), (1,), 2)]
+[(2, 2), (1, 3), None, ((1,), False), ((1,), False)]
+"""
+
+BUILT_AND_HEIGHTS = """
+>>> from stilewalks.built import is_balanced, judge_show, pieces_of, show_holds
+>>> square = (((2, 0), 1, 1), ((2, 0), 2, -1), ((2, 1), 1, -1), ((3, 0), 2, 1))
+>>> [is_balanced(2, square), pieces_of(2, square), judge_show(1, (((0,), 1, 1), ((1,), 1, 1))), judge_show(1, (((3,), 1, 1),)), show_holds(1, (((3,), 1, 1),), ('room', (3,))), show_holds(1, (((0,), 1, 1),), ('row', (1, 1, -1)))]
+[True, (((2, 0), (2, 1), (3, 0), (3, 1)),), ('row', (1, 1)), ('room', (3,)), True, True]
+>>> from stilewalks.built import row_for
+>>> row_for(1, (((3,), 1, 1),))
+raises NotBalanced(('room', (3,)))
+>>> from stilewalks.heights import area_of, heights_of, show_of_heights, square_row
+>>> square = (((2, 0), 1, 1), ((2, 0), 2, -1), ((2, 1), 1, -1), ((3, 0), 2, 1))
+>>> [heights_of(square), area_of(square), show_of_heights((((0, 0), 1), ((0, 1), 1))), heights_of(()), len(square_row((0, 0))) >= 4]
+[(((2, 0), 1),), 1, (((0, 0), 1, 1), ((0, 0), 2, -1), ((0, 1), 2, -1), ((0, 2), 1, -1), ((1, 0), 2, 1), ((1, 1), 2, 1)), (), True]
+>>> from stilewalks.heights import heights_of
+>>> heights_of((((0, 0), 1, 1),))
+raises NotClosed((((0, 0), 1, 1),))
+"""
+
+LED = """
+>>> from stilewalks.led import first_room, is_led, leading_rooms, led_holds, rolled_along
+>>> from stilewalks.shows import show_of
+>>> [first_room(2, (5, 1), (2, 3)), rolled_along(2, show_of(2, (2, 1, -2)), (1, 0)), leading_rooms(2, (1,), (2, 1, -2)), led_holds(2, (1,), (2, 1, -2), ('row', (2,))), is_led(2, (1, 1), (1, 2, 1, -2))]
+[(1, -5), (((0, 1), 1, 1),), ((0, 1),), True, False]
+>>> from stilewalks.led import judge_led, led_holds
+>>> [judge_led(2, (1,), (2,)), led_holds(2, (1, 1), (1, 2, 1, -2), ('stiles', (((0, 0), ((0, 0), 2)), ((1, 1), ((0, 0), 1)))))]
+[('ends', (1, 0), (0, 1)), True]
+"""
+
+PARTS = """
+>>> from stilewalks.parts import judge_part, part_holds, part_of, root_of
+>>> [judge_part(2, (1, 1, 2), 2), part_holds(2, (1, 2, 1, 2), 2, ('part', (1, 2))), part_holds(2, (1, 1, 2, 2), 2, ('moved', ((0, 0), 1))), part_of(2, (1, 2, -1, -2), 2), root_of(1, (1, 1, 1))[1]]
+[('end', 1), True, True, None, 3]
+>>> from stilewalks.parts import root_of
+>>> root_of(2, (1, -1))
+raises BadRow((1, -1))
+"""
+
 
 class Examples(Case):
     """Each row behind >>> is run; a row behind it is what it tells or raises."""
@@ -61,6 +126,21 @@ class Examples(Case):
 
     def test_shows(self):
         self.assertEqual(self.play(SHOWS), 3)
+
+    def test_quotients(self):
+        self.assertEqual(self.play(QUOTIENTS), 2)
+
+    def test_alike_and_rolled(self):
+        self.assertEqual(self.play(ALIKE_AND_ROLLED), 4)
+
+    def test_built_and_heights(self):
+        self.assertEqual(self.play(BUILT_AND_HEIGHTS), 4)
+
+    def test_led(self):
+        self.assertEqual(self.play(LED), 2)
+
+    def test_parts(self):
+        self.assertEqual(self.play(PARTS), 2)
 
 
 if __name__ == "__main__":

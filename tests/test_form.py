@@ -1,6 +1,7 @@
 """The form of the package: its files, their sizes and characters, what they import, and the interface."""
 
 import ast
+import builtins
 import os
 import unittest
 
@@ -9,6 +10,13 @@ from tests.helping import INTERFACE
 FOLDER = os.path.join(os.path.dirname(os.path.dirname(os.path.abspath(__file__))), "stilewalks")
 LIBRARY = ("__future__", "heapq", "math", "itertools", "collections")
 BARRED = (ast.AsyncFunctionDef, ast.Global, ast.Div, ast.Import, ast.Await, ast.AsyncFor, ast.AsyncWith)
+
+
+BUILTINS = """len range enumerate zip min max sum abs sorted reversed int str bool list tuple dict set isinstance ord repr any all
+    divmod Exception""".split()
+METHODS = """append clear copy count endswith extend find get index insert isalnum isalpha isdigit islower isspace isupper items join
+    keys ljust lower lstrip partition pop remove replace reverse rfind rjust rpartition rsplit rstrip setdefault split splitlines
+    startswith strip update upper values zfill bit_length add discard removeprefix removesuffix isascii""".split()
 
 
 class Form(unittest.TestCase):
@@ -51,6 +59,33 @@ class Form(unittest.TestCase):
                     self.assertTrue(all(alias.asname is None and alias.name != "*" for alias in node.names), name)
                     if own:
                         self.assertEqual([alias.name for alias in node.names if alias.name not in self.defined(node.module[11:])], [])
+
+    def test_names(self):
+        """No variable has the name of a builtin or of an import of its file; only some builtins and methods are used."""
+        for name, tree in self.trees.items():
+            imported = {alias.name for node in tree.body if isinstance(node, ast.ImportFrom) for alias in node.names}
+            made = {node.id for node in ast.walk(tree) if isinstance(node, ast.Name) and isinstance(node.ctx, ast.Store)}
+            made |= {node.arg for node in ast.walk(tree) if isinstance(node, ast.arg)}
+            top = {node.name for node in tree.body if isinstance(node, (ast.FunctionDef, ast.ClassDef))}
+            self.assertEqual(made & (imported | top), set(), name)
+            self.assertEqual((made | top) & set(dir(builtins)), set(), name)
+            read = {node.id for node in ast.walk(tree) if isinstance(node, ast.Name) and isinstance(node.ctx, ast.Load)}
+            self.assertEqual(read - made - imported - top - set(BUILTINS), set(), name)
+            self.assertEqual(imported - read, set(), name)
+            called = {node.func.attr for node in ast.walk(tree) if isinstance(node, ast.Call) and isinstance(node.func, ast.Attribute)}
+            self.assertEqual(called - set(METHODS), set(), name)
+
+    def test_strings_and_comparisons(self):
+        for name, tree in self.trees.items():
+            for node in ast.walk(tree):
+                if isinstance(node, ast.Constant) and isinstance(node.value, str):
+                    self.assertNotIn("%", node.value, name)
+                if isinstance(node, ast.Compare):
+                    for way, thing in zip(node.ops, node.comparators):
+                        if isinstance(way, (ast.Is, ast.IsNot)):
+                            self.assertTrue(isinstance(thing, ast.Constant) and thing.value in (None, True, False), name)
+                if isinstance(node, ast.Call):
+                    self.assertFalse(any(isinstance(argument, ast.Starred) for argument in node.args), name)
 
     def defined(self, name):
         """The names that a file defines itself."""
