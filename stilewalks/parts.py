@@ -51,7 +51,7 @@ def part_holds(r, row, n, thing):
     if not isinstance(thing, tuple) or len(thing) != 2:
         return False
     if thing[0] == "part":
-        return is_row(r, thing[1]) and is_part(r, row, n, thing[1])
+        return is_row(r, thing[1]) and is_repeat(r, row, n, thing[1])
     end = row_end(r, row)
     if thing[0] == "end":
         return is_whole(thing[1]) and 0 <= thing[1] < r and end[thing[1]] % n != 0
@@ -62,14 +62,14 @@ def part_holds(r, row, n, thing):
     return False
 
 
-def is_part(r, row, n, part):
-    """Whether one row is an n-th part of another one."""
+def is_repeat(r, row, n, part):
+    """Whether a row is alike another one done n times; below 0 that one is undone, and done -n times."""
     end, by = row_end(r, row), row_end(r, part)
     if room_times(n, by) != end:
         return False
     if end == beginning(r):
         return plus_times((), n, show_of(r, part)) == show_of(r, row)
-    # What is done n times shows its show times 1 - t^end, divided by 1 - t^by.
+    # What is done n times shows its show times 1 - t^end, divided by 1 - t^by; also for n below 0.
     return less_moved_show(show_of(r, part), end) == less_moved_show(show_of(r, row), by)
 
 

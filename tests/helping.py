@@ -3,6 +3,7 @@
 import unittest
 
 from stilewalks import errors
+from stilewalks.houses import House, read_house
 
 INTERFACE = {
     "scripts": {
@@ -73,8 +74,91 @@ INTERFACE = {
         "part_of": ("r", "row", "n"),
         "root_of": ("r", "row"),
     },
+    "orders": {
+        "is_either_order": ("r", "one", "other"),
+        "judge_order": ("r", "one", "other"),
+        "order_holds": ("r", "one", "other", "thing"),
+    },
+    "books": {
+        "is_book": ("r", "thing"),
+        "put": ("r", "book", "row"),
+        "behind": ("r", "one", "other"),
+        "book_ends": ("r", "book"),
+        "book_table": ("r", "book"),
+        "book_determinant": ("r", "book"),
+        "books_alike": ("r", "one", "other"),
+        "judge_back": ("r", "book"),
+        "back_holds": ("r", "book", "thing"),
+        "is_taken_back": ("r", "book"),
+        "leader_of": ("r", "book"),
+    },
+    "termsums": {
+        "is_sum": ("r", "thing"),
+        "sum_plus": ("r", "one", "other"),
+        "sum_times": ("r", "one", "other"),
+        "sum_moved": ("r", "terms", "room"),
+        "is_unit": ("r", "thing"),
+        "divided": ("r", "one", "other"),
+        "determinant": ("r", "table"),
+        "value_at": ("r", "terms", "p", "point"),
+    },
+    "trips": {
+        "polynomial_of": ("p", "heights"),
+        "is_base": ("p", "thing"),
+        "is_closed_base": ("p", "thing"),
+        "rest_by": ("p", "polynomial", "base"),
+        "does_follow": ("p", "told", "row"),
+        "judge_follows": ("p", "told", "row"),
+        "follows_holds": ("p", "told", "row", "thing"),
+        "least_base": ("p", "told"),
+        "many_rows": ("p", "told"),
+    },
+    "fewest": {
+        "fewest_joining": ("r", "show"),
+        "fewest_steps": ("r", "show"),
+        "shortest_row": ("r", "show"),
+    },
+    "lamps": {
+        "is_lamp_row": ("thing",),
+        "is_form": ("p", "thing"),
+        "form_of": ("p", "row"),
+        "fewest_letters": ("p", "form"),
+        "shortest_lamp_row": ("p", "form"),
+        "judge_lamps_led": ("p", "one", "other"),
+        "lamps_led_hold": ("p", "one", "other", "thing"),
+        "are_lamps_led": ("p", "one", "other"),
+        "lamp_part": ("p", "row", "n"),
+    },
+    "walkers": {
+        "together": ("r", "rows"),
+        "judge_shares": ("r", "rows", "show"),
+        "shares_hold": ("r", "rows", "show", "thing"),
+        "can_be_shared": ("r", "rows", "show"),
+        "idle_numbers": ("r", "rows"),
+    },
+    "houses": {
+        "read_house": ("text",),
+    },
 }
 PARAMETERS = {name: parameters for part in INTERFACE.values() for name, parameters in part.items()}
+HOUSE = {
+    "names": (),
+    "row_of": ("name",),
+    "promises": (),
+    "put": ("name", "row"),
+    "behind": ("name", "one", "other"),
+    "around": ("name", "one", "other"),
+    "back": ("name",),
+    "by_book": ("book",),
+    "leave": ("name",),
+    "make": ("thing",),
+    "drop": ("thing",),
+    "undo": (),
+    "redo": (),
+    "copied": (),
+    "text": (),
+    "is_same": ("thing",),
+}
 
 
 def deep(value, times):
@@ -83,6 +167,9 @@ def deep(value, times):
         value = (value,)
     return value
 
+
+NEW_HOUSE = House(1)
+FULL_HOUSE = read_house("hall 2\nrow a 1 2 -1 -2\nrow b 2\nrow c\npromise home a\npromise order a c")
 
 # None of these is a room, a row, a script or a show, of however many directions.
 NOTHING = (
@@ -96,6 +183,8 @@ NOTHING = (
     deep(1, 12), deep((), 11), deep("row", 12), deep([deep({1: (True, [None])}, 4)], 4),
     tuple([None] * 2999), ("row",) + tuple([1] * 2000) + (None,), tuple([1] * 2000) + (True,),
     (0, 0, 0, 0, 0), (5,) * 5, (1, -1, 0, "1"), (1, -1, None),
+    NEW_HOUSE, FULL_HOUSE, (NEW_HOUSE,), (FULL_HOUSE, FULL_HOUSE), [FULL_HOUSE], {1: FULL_HOUSE}, {"house": NEW_HOUSE},
+    ("row", FULL_HOUSE), (1, NEW_HOUSE), (NEW_HOUSE, 1, 1), ((NEW_HOUSE,), 1, 1), ((0,), NEW_HOUSE, FULL_HOUSE),
 )
 
 def listed(thing):
@@ -131,7 +220,7 @@ def changed(chance, thing):
     if isinstance(thing, int) and not isinstance(thing, bool) and chance.random() < 0.9:
         others = [thing + 1, thing - 1, -thing, thing + 2, 2 * thing, 0, 1]
         return chance.choice(others + [thing == 1, thing != 0, str(thing), None, (thing,), 10 ** 39])
-    return chance.choice(NOTHING[:40] + (1, -1, 2, (), (0,), (0, 0), (1,), ((0, 0), 1), [thing], (thing,)))
+    return chance.choice(NOTHING[:40] + (NEW_HOUSE, FULL_HOUSE, 1, -1, 2, (), (0,), (0, 0), (1,), ((0, 0), 1), [thing], (thing,)))
 
 
 # Values as parameters of errors: pairs of them are equal in Python, though they are of unlike kinds.
@@ -147,7 +236,9 @@ class Case(unittest.TestCase):
 
     def ways(self, function, given):
         """All ways to call: the first arguments by position, the others by name, also in reverse."""
-        names = PARAMETERS[function.__name__]
+        # Methods of houses have the names of some functions, with other parameters.
+        table = HOUSE if isinstance(getattr(function, "__self__", None), House) else PARAMETERS
+        names = table[function.__name__]
         self.assertEqual(len(names), len(given))
         for k in range(len(given) + 1):
             named = list(zip(names, given))[k:]

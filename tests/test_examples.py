@@ -96,6 +96,110 @@ PARTS = """
 raises BadRow((1, -1))
 """
 
+ORDERS = r"""
+>>> from stilewalks.parts import judge_part, part_holds, part_of, root_of
+>>> [judge_part(2, (1, 1, 2), 2), part_holds(2, (1, 2, 1, 2), 2, ('part', (1, 2))), part_holds(2, (1, 1, 2, 2), 2, ('moved', ((0, 0), 1))), part_of(2, (1, 2, -1, -2), 2), root_of(1, (1, 1, 1))[1]]
+[('end', 1), True, True, None, 3]
+>>> from stilewalks.orders import is_either_order, order_holds
+>>> [order_holds(2, (1, 2), (-2, -1, -2, -1), ('row', (1, 2), 1, -2)), order_holds(2, (1, 2, -1, -2), (2, 1, -2, -1), ('closed',)), is_either_order(2, (1,), (2,)), order_holds(2, (1,), (2,), ('passage', ((1, 0), 2)))]
+[True, True, False, True]
+>>> from stilewalks.parts import root_of
+>>> root_of(2, (1, -1))
+raises BadRow((1, -1))
+"""
+
+BOOKS = r"""
+>>> from stilewalks.books import back_holds, behind, book_determinant, book_ends, book_table, judge_back, leader_of, put
+>>> book = ((1, 2), (2,))
+>>> [put(2, book, (1, -2)), behind(2, book, ((1, -2), (2,))), book_ends(2, book), book_table(2, book), book_determinant(2, book), back_holds(2, book, ('back', ((1, -2), (2,))))]
+[(1, 2, -2), ((1, 2, -2), (2,)), ((1, 1), (0, 1)), (((((0, 0), 1),), (((1, 0), 1),)), ((), (((0, 0), 1),))), (((0, 0), 1),), True]
+>>> from stilewalks.books import is_taken_back, judge_back, leader_of
+>>> [judge_back(2, ((1, 1), (2,))), is_taken_back(2, ((2, 1, -2), (2,))), leader_of(2, ((1, 2), (2,)))]
+[('determinant', (((0, 0), 1), ((1, 0), 1))), True, None]
+"""
+
+TERM_SUMS = r"""
+>>> from stilewalks.termsums import divided, is_unit, sum_times, value_at
+>>> three, one = (((0,), -1), ((3,), 1)), (((0,), -1), ((1,), 1))
+>>> [divided(1, three, one), divided(1, one, three), sum_times(1, one, one), is_unit(1, (((-7,), -1),)), value_at(1, (((0,), 1), ((1,), 1), ((2,), 1)), 7, (2,)), value_at(1, (((-1,), 1),), 7, (2,))]
+[(((0,), 1), ((1,), 1), ((2,), 1)), None, (((0,), 1), ((1,), -2), ((2,), 1)), True, 0, 4]
+>>> from stilewalks.termsums import determinant
+>>> determinant(1, (((((1,), 1),), ()), ((((0,), 5),), (((2,), 3),))))
+(((3,), 3),)
+>>> from stilewalks.termsums import divided
+>>> divided(1, (((0,), 1),), ())
+raises BadSum(())
+"""
+
+TRIPS = r"""
+>>> from stilewalks.trips import does_follow, follows_holds, least_base, many_rows, polynomial_of
+>>> told = ((1, 1, 2, -1, -1, -2),)
+>>> [polynomial_of(3, (((-1, 0), 4), ((0, 0), 3))), least_base(2, told), many_rows(2, told), does_follow(2, told, (1, 2, -1, -2))]
+[(((0, 1, 1), 1),), ((((0, 0, 0), 1), ((1, 0, 0), 1)), (((0, 0, 0), 1), ((0, 1, 1), 1))), None, False]
+>>> from stilewalks.trips import follows_holds, least_base, many_rows
+>>> told = ((1, 1, 2, -1, -1, -2),)
+>>> [follows_holds(2, told, (1, 2, -1, -2), ('barred', least_base(2, told))), follows_holds(2, told, (1, 2, -1, -2, 1, 1, 1, 2, -1, -2, -1, -1), ('sum', ((((0, 0), 1), ((1, 0), 1)),))), many_rows(5, ((1, 2, -1, -2),))]
+[True, True, 1]
+"""
+
+FEWEST = r"""
+>>> from stilewalks.fewest import fewest_joining, fewest_steps, shortest_row
+>>> square = (((2, 0), 1, 1), ((2, 0), 2, -1), ((2, 1), 1, -1), ((3, 0), 2, 1))
+>>> [fewest_joining(2, square), fewest_steps(2, square), fewest_steps(1, ()), fewest_steps(1, (((0,), 1, 1),)), shortest_row(1, (((0,), 1, 1),))]
+[2, 8, 0, 1, (1,)]
+>>> from stilewalks.fewest import fewest_steps
+>>> fewest_steps(1, (((3,), 1, 1),))
+raises NotBalanced(('room', (3,)))
+"""
+
+LAMPS = r"""
+>>> from stilewalks.lamps import are_lamps_led, fewest_letters, form_of, judge_lamps_led, lamps_led_hold
+>>> [form_of(3, (2, 1, 2, 2, 1, -2, -1)), fewest_letters(3, (1, ((0, 1), (1, 2), (2, 2)))), fewest_letters(2, (0, ((-1, 1), (2, 1)))), are_lamps_led(2, (2, 1), (1, 2)), judge_lamps_led(2, (2, 1, 1), (2, 1, 2, 1)), lamps_led_hold(2, (2, 1), (1, 2), ('row', (1,)))]
+[(1, ((0, 1), (1, 2), (2, 2))), 6, 8, True, ('folds', (1, 0), (1, 1)), True]
+>>> from stilewalks.lamps import form_of, lamp_part
+>>> [form_of(2, lamp_part(2, (2, 1, 2, 1), 2)), lamp_part(2, (2, 1, 1), 2), lamp_part(2, (2,), 2), form_of(4, lamp_part(4, (2, 1, -1), 3))]
+[(1, ((0, 1),)), None, None, (0, ((0, 3),))]
+"""
+
+WALKERS = r"""
+>>> from stilewalks.shows import show_of
+>>> from stilewalks.walkers import idle_numbers, judge_shares, shares_hold, together
+>>> rows = ((1, 2, -1, -2), (1, 1, 2, -1, -1, -2))
+>>> square = show_of(2, (1, 1, 2, -1, -2, -1))
+>>> [together(1, ((1,), (1, 1), (-1,))), judge_shares(2, rows, square), shares_hold(2, rows[1:], show_of(2, rows[0]), ('weights', ((((0, 0), 1), 1), (((1, 0), 1), -1)), 0)), idle_numbers(2, rows)]
+[(((-1,), 1, -1), ((0,), 1, 2), ((1,), 1, 1)), ('numbers', (-1, 1)), True, None]
+"""
+
+HOUSES = r"""
+>>> from stilewalks.houses import House
+>>> house = House(2)
+>>> [house.put('a', (1, 2, -1, -2)), house.put('b', (2,)), house.make(('home', 'a')), house.around('a', 'b', 'a'), house.names(), house.text()]
+[None, None, None, None, (('a', (2, 1, 2, -1, -2, -2)), ('b', (2,))), 'hall 2\nrow a 2 1 2 -1 -2 -2\nrow b 2\npromise home a']
+>>> from stilewalks.houses import House, read_house
+>>> house = House(2)
+>>> house.put('a', (1, 2, -1, -2))
+>>> house.put('b', (2,))
+>>> house.around('a', 'b', 'a')
+>>> [house.undo(), house.row_of('a'), house.redo(), house.leave('a'), house.names(), house.is_same(read_house('hall 2\nrow b 2'))]
+[None, (1, 2, -1, -2), None, None, (('b', (2,)),), True]
+>>> from stilewalks.houses import House
+>>> house = House(2)
+>>> house.put('a', (1, 2, -1, -2))
+>>> house.make(('home', 'a'))
+>>> house.behind('a', 'a', 'b')
+raises NoName('b')
+>>> from stilewalks.houses import House
+>>> house = House(1)
+>>> house.put('a', (1, -1))
+>>> house.put('b', (1,))
+>>> house.make(('home', 'a'))
+>>> house.behind('a', 'a', 'b')
+raises Broken(('home', 'a'), ('end', (1,)))
+>>> from stilewalks.houses import read_house
+>>> read_house('hall 2\nrow b 3')
+raises BadText(2)
+"""
+
 
 class Examples(Case):
     """Each row behind >>> is run; a row behind it is what it tells or raises."""
@@ -141,6 +245,30 @@ class Examples(Case):
 
     def test_parts(self):
         self.assertEqual(self.play(PARTS), 2)
+
+    def test_orders(self):
+        self.assertEqual(self.play(ORDERS), 3)
+
+    def test_books(self):
+        self.assertEqual(self.play(BOOKS), 2)
+
+    def test_term_sums(self):
+        self.assertEqual(self.play(TERM_SUMS), 3)
+
+    def test_trips(self):
+        self.assertEqual(self.play(TRIPS), 2)
+
+    def test_fewest(self):
+        self.assertEqual(self.play(FEWEST), 2)
+
+    def test_lamps(self):
+        self.assertEqual(self.play(LAMPS), 2)
+
+    def test_walkers(self):
+        self.assertEqual(self.play(WALKERS), 1)
+
+    def test_houses(self):
+        self.assertEqual(self.play(HOUSES), 5)
 
 
 if __name__ == "__main__":

@@ -5,7 +5,7 @@ import builtins
 import os
 import unittest
 
-from tests.helping import INTERFACE
+from tests.helping import HOUSE, INTERFACE
 
 FOLDER = os.path.join(os.path.dirname(os.path.dirname(os.path.abspath(__file__))), "stilewalks")
 LIBRARY = ("__future__", "heapq", "math", "itertools", "collections")
@@ -73,7 +73,8 @@ class Form(unittest.TestCase):
             self.assertEqual(read - made - imported - top - set(BUILTINS), set(), name)
             self.assertEqual(imported - read, set(), name)
             called = {node.func.attr for node in ast.walk(tree) if isinstance(node, ast.Call) and isinstance(node.func, ast.Attribute)}
-            self.assertEqual(called - set(METHODS), set(), name)
+            own = {method.name for node in tree.body if isinstance(node, ast.ClassDef) for method in node.body if isinstance(method, ast.FunctionDef)}
+            self.assertEqual(called - set(METHODS) - own, set(), name)
 
     def test_strings_and_comparisons(self):
         for name, tree in self.trees.items():
@@ -101,6 +102,17 @@ class Form(unittest.TestCase):
                 self.assertEqual(tuple(argument.arg for argument in arguments.args), parameters, function)
                 self.assertEqual((arguments.posonlyargs, arguments.kwonlyargs, arguments.defaults), ([], [], []))
                 self.assertEqual((arguments.vararg, arguments.kwarg), (None, None))
+
+    def test_house(self):
+        """The class of the interface has all its methods in its own body, and no method is an attribute."""
+        bodies = [node.body for node in self.trees["houses"].body if isinstance(node, ast.ClassDef) and node.name == "House"]
+        methods = {node.name: [argument.arg for argument in node.args.args] for node in bodies[0] if isinstance(node, ast.FunctionDef)}
+        self.assertEqual(methods["__init__"], ["self", "r"])
+        for name, parameters in HOUSE.items():
+            self.assertEqual(methods[name], ["self", *parameters])
+        self.assertEqual([name for name in methods if name.startswith("__")], ["__init__", "__eq__"])
+        assigned = {node.attr for node in ast.walk(self.trees["houses"]) if isinstance(node, ast.Attribute) and isinstance(node.ctx, ast.Store)}
+        self.assertEqual(assigned & set(methods), set())
 
 
 if __name__ == "__main__":
