@@ -6,7 +6,8 @@ from stilewalks.rooms import beginning, room_plus, room_times
 from stilewalks.rounds import row_with
 from stilewalks.scripts import backwards, check_row, is_row, row_end
 from stilewalks.shows import add_number, plus_times, show_of, show_with
-from stilewalks.terms import is_term_sum, sum_with, table_determinant
+from stilewalks.terms import sum_with, table_determinant
+from stilewalks.termsums import is_sum, is_unit
 
 
 def is_book(r, thing):
@@ -95,18 +96,13 @@ def same_rows(r, one, other):
 
 def is_taken_back(r, book):
     """Whether a book can be taken back."""
-    return is_unit_sum(book_determinant(r, book))
-
-
-def is_unit_sum(terms):
-    """Whether what is known to be a term sum is a unit."""
-    return len(terms) == 1 and abs(terms[0][1]) == 1
+    return is_unit(r, book_determinant(r, book))
 
 
 def judge_back(r, book):
     """A certificate that a book can be taken back, or that it cannot."""
     product = book_determinant(r, book)
-    if not is_unit_sum(product):
+    if not is_unit(r, product):
         return "determinant", product
     return "back", back_of(r, book, product[0])
 
@@ -165,8 +161,8 @@ def back_holds(r, book, thing):
         return False
     if thing[0] == "back":
         return is_book(r, thing[1]) and does_take_back(r, book, thing[1])
-    if thing[0] == "determinant" and is_term_sum(r, thing[1]):
-        return thing[1] == book_determinant(r, book) and not is_unit_sum(thing[1])
+    if thing[0] == "determinant" and is_sum(r, thing[1]):
+        return thing[1] == book_determinant(r, book) and not is_unit(r, thing[1])
     return False
 
 

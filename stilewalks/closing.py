@@ -86,7 +86,8 @@ def least_members(p, members):
     heads = [head_of(one) for one in kept]
     least = []
     for at, one in enumerate(kept):
-        rest, _ = reduced_by(p, one, kept[:at] + kept[at + 1:], heads[:at] + heads[at + 1:])
+        # No triple of a member is over a head that is higher than its own.
+        rest, _ = reduced_by(p, one, kept[:at], heads[:at])
         least.append(rest)
     return least
 

@@ -82,7 +82,7 @@ class House:
 
     def drop(self, thing):
         """Removes a promise."""
-        if not is_promise(self.rows, thing) or thing not in self.vows:
+        if thing not in self.vows:
             raise BadPromise(thing)
         self.turn_to(self.rows, tuple([promise for promise in self.vows if promise != thing]))
 

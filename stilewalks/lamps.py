@@ -203,8 +203,7 @@ def judge_lamps_led(p, one, other):
         return "ends", end, other_form[0]
     room = leading_room(p, form, other_form)
     if room is not None:
-        if end == 0:
-            return "row", row_with_form(p, (room, ()))
+        # With the end 0 nothing is left between them, and the row only goes to the room.
         between = lamps_less(p, other_form[1], moved_lamps(form[1], room))
         return "row", row_with_form(p, (room, divided_lamps(p, between, end)))
     if end == 0:
@@ -226,8 +225,6 @@ def lamps_led_hold(p, one, other, thing):
         return False
     if thing[0] == "row":
         return len(thing) == 2 and is_lamp_row(thing[1]) and does_lead(p, thing[1], one, other)
-    if len(thing) != 3:
-        return False
     form, other_form = row_form(p, one), row_form(p, other)
     if thing[0] == "ends" and all([is_whole(item) for item in thing[1:]]):
         return form[0] != other_form[0] and thing[1:] == (form[0], other_form[0])

@@ -11,22 +11,16 @@ from stilewalks.shows import check_show, is_passage, plus_times, show_of
 
 def together(r, rows):
     """The show behind several walkers."""
-    check_rows(r, rows)
     show = ()
     for row in rows:
         show = plus_times(show, 1, show_of(r, row))
     return show
 
 
-def check_rows(r, rows):
-    """Raises BadRow for the first value that is no row."""
-    for row in rows:
-        check_row(r, row)
-
-
 def check_closed_rows(r, rows):
     """Raises BadRow or NotClosed for the first value that is no row, or else the first row that is not closed."""
-    check_rows(r, rows)
+    for row in rows:
+        check_row(r, row)
     for row in rows:
         if row_end(r, row) != beginning(r):
             raise NotClosed(row)

@@ -293,7 +293,9 @@ class Houses(HouseCase):
         """Names may be the words of promises: only the names are names."""
         house = done(House(1), ("put", "home", ()), ("put", "led", (1, -1)), ("put", "alike", (1,)), ("make", ("home", "home")), ("make", ("home", "led")),
                      ("make", ("alike", "home", "led")), ("make", ("led", "home", "led")), ("make", ("order", "alike", "home")))
-        self.assertIsNone(house.copied().leave("alike"))
+        other = house.copied()
+        self.assertIsNone(other.leave("alike"))
+        self.same(other.promises(), (("home", "home"), ("home", "led"), ("alike", "home", "led"), ("led", "home", "led")))
         other = house.copied()
         other.leave("led")
         self.same(other.promises(), (("home", "home"), ("order", "alike", "home")))
@@ -481,6 +483,7 @@ class Houses(HouseCase):
         self.assertIs(read_house("hall 2\nrow a 1") == read_house("hall 2\nrow a 1"), True)
         for text in ("hall 1\nrow a 1", "hall 2\nrow a 2", "hall 2\nrow b 1", "hall 2\nrow a 1\nrow b", "hall 2"):
             self.assertIs(read_house("hall 2\nrow a 1") == read_house(text), False)
+        self.assertIs(read_house("hall 2\nrow a\npromise home a") == read_house("hall 2\nrow a"), False)
 
 
 class Broke(HouseCase):

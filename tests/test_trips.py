@@ -423,8 +423,11 @@ class Follows(Case):
             self.assertIs(follows_holds(p, told, row, ("sum", factors[::-1])), sum_is_right(p, told, row, factors[::-1]))
             wrong = (added(factors[0], (((99, 99), 1),)), factors[1])
             self.assertIs(follows_holds(p, told, row, ("sum", wrong)), by(p, one) == ())
+            # Numbers that are by p the same, or nothing, but are not from 1 to p - 1.
             big = (tuple((room, number + p) for room, number in factors[0]), factors[1])
             self.assertIs(follows_holds(p, told, row, ("sum", big)), big == factors)
+            self.assertIs(follows_holds(p, told, row, ("sum", (added(factors[0], (((99, 99), p),)), factors[1]))), False)
+            self.assertIs(follows_holds(p, told, row, ("sum", (factors[0], added(factors[1], (((99, 99), -1),))))), False)
 
     def test_any_certificate(self):
         chance = Random(191)
@@ -479,6 +482,8 @@ class Follows(Case):
 
 class LeastBases(Case):
 
+    sizes = []
+
     def check(self, p, told):
         """A least base by its own definition."""
         base = least_base(p, told)
@@ -494,6 +499,13 @@ class LeastBases(Case):
         for polynomial in [tie(p)] + [polynomial_by_hand(p, row_heights(part)) for part in told]:
             self.assertEqual(rest_by_hand(p, polynomial, base), ())
             self.same(rest_by(p, polynomial, base), ())
+        # Triples that are over no head: endlessly many if some have a great item.
+        free = [triple for triple in product(range(16), repeat=3) if not any(is_over(triple, head) for head in heads)]
+        if any(15 in triple for triple in free):
+            self.assertIsNone(many_rows(p, told))
+        else:
+            self.same(many_rows(p, told), p ** len(free))
+            self.sizes.append(tuple(1 + max([-1] + [triple[k] for triple in free]) for k in range(3)))
         return base
 
     def test_members_follow(self):
@@ -557,6 +569,16 @@ class LeastBases(Case):
                 rests = more
             self.assertEqual(len(rests), many)
         self.assertGreater(tested, 30)
+
+    def test_sizes(self):
+        """Least bases in which each of the letters can have the greatest and the least powers."""
+        for p, told in ((5, ((-2, -2, 1, 1, -2, 1, 2, 2, 2, -1, -1, -1), (-2, 1, 2, 2, -2, 2, 1, -1, 1, -2, -1, -1))),
+                        (2, ((2, -1, -2, -2, 2, -2, -1, -2, 2, 2, 1, 1), (-1, -2, 2, -2, -2, 1, 1, 2, 2, 1, -1, -1))),
+                        (5, ((1, 1, 1, 1, -1, 1, -2, -1, -1, -1, -1, 2), (2, -1, -2, -2, 1, -1, 1, -2, 2, 2))),
+                        (3, ((1, -1, -2, 2, -1, -2, -1, -1, 2, 1, 1, 1), (2, 2, 2, 2, 1, -2, -2, -2, -2, -1)))):
+            self.check(p, told)
+        for k, j in ((0, 1), (0, 2), (1, 0), (1, 2), (2, 0), (2, 1)):
+            self.assertTrue(any(size[k] < size[j] for size in self.sizes), (k, j))
 
     def test_slow_ones(self):
         """Told rows whose least bases take long to find."""

@@ -241,6 +241,9 @@ class Shares(Case):
                     self.assertIs(shares_hold(r, rows, show, thing), is_right(r, rows, show, thing), (rows, show, thing))
         self.tells(False, shares_hold, 2, (LOOP * 2,), show_of(2, LOOP), ("weights", ((((0, 0), 1), 1),), 4))
         self.tells(True, shares_hold, 2, (LOOP * 2,), show_of(2, LOOP), ("weights", ((((0, 0), 1), 1),), 2))
+        self.tells(True, shares_hold, 2, (LOOP * 2,), show_of(2, LOOP), ("weights", ((((0, 0), 1), 1), (((5, 5), 1), 1)), 2))
+        self.tells(False, shares_hold, 2, (LOOP * 2,), show_of(2, LOOP), ("weights", ((((0, 0), 1), 1), (((5, 5), 1), 0)), 2))
+        self.tells(False, shares_hold, 2, (LOOP * 2,), show_of(2, LOOP), ("weights", ((((0, 0), 1), 1), (((5, 5), 3), 1)), 2))
 
     def test_errors(self):
         for r in (1, 2, 3):
