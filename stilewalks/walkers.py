@@ -56,8 +56,8 @@ def judge_shares(r, rows, show):
         if share % size != 0:
             weights = weights_of(steps, columns, [size if j == k else 0 for j in range(len(steps))])
             return weights_told(passages, columns, weights, size)
-    numbers = [sum_of([share // size for share in shares], made, k) for k in range(len(rows))]
-    return "numbers", tuple(numbers)
+    wholes = [number // size for number in shares]
+    return "numbers", tuple([sum_of(wholes, made, at) for at in range(len(rows))])
 
 
 def weights_told(passages, columns, weights, m):

@@ -23,7 +23,7 @@ from tests.test_books import made_book, some_book
 from tests.test_fewest import pieces_show, shows_within
 from tests.test_heights import some_heights
 from tests.test_houses import does_hold
-from tests.test_led import LOOP, alike_row
+from tests.test_led import alike_row
 from tests.test_rows import some_row
 from tests.test_scripts import some_script
 from tests.test_shows import some_show

@@ -328,31 +328,19 @@ class Houses(HouseCase):
             self.is_told(house, {"a": (2, 1, -2, -1), "b": (2, 1, -2, -1, 2, -2), "c": (2,), "d": (-2, 2, 2)}, tuple(promises))
 
     def test_books_and_promises(self):
+        """What a book puts for rows that are alike, closed, in either order or led is so again: it breaks no promise."""
         chance = Random(243)
-        broken = 0
-        for _ in range(60):
-            one, other = some_row(chance, 2, 8), some_row(chance, 2, 8)
-            house = done(House(2), ("put", "a", one), ("put", "b", alike_row(chance, 2, one)), ("put", "c", other), ("put", "d", one + other + undone_row(2, one)),
-                         ("make", ("alike", "a", "b")), ("make", ("led", "c", "d")), ("make", ("order", "a", "b")))
-            if not any(row_end(2, one)):
-                house.make(("home", "a"))
-            book = some_book(chance, 2, 3)
-            # What a book puts for rows that are alike is alike, and so on: no book breaks promises like these.
-            rows = {name: put_by_hand(book, row) for name, row in house.names()}
-            self.assertIsNone(house.by_book(book))
-            self.is_told(house, rows, house.promises())
-            # But a promise can break where the rows are led in a way that is not told by a row.
-            house = done(House(2), ("put", "a", other), ("put", "b", some_row(chance, 2, 8)))
-            for promise in (("led", "a", "b"), ("order", "a", "b")):
-                rows = dict(house.names())
-                if does_hold(2, rows, promise):
-                    house.make(promise)
-                    rows = {name: put_by_hand(book, row) for name, row in house.names()}
-                    if not does_hold(2, rows, promise):
-                        broken += 1
-                        self.breaks(house.promises()[0], house, rows, "by_book", book)
-        # No book at all breaks a promise of these kinds.
-        self.assertEqual(broken, 0)
+        for r in (1, 2, 3):
+            for _ in range(40):
+                one, other, book = some_row(chance, r, 8), some_row(chance, r, 8), some_book(chance, r, 3)
+                house = done(House(r), ("put", "a", one), ("put", "b", alike_row(chance, r, one)), ("put", "c", other), ("put", "d", one + other + undone_row(r, one)),
+                             ("put", "e", one + one), ("make", ("alike", "a", "b")), ("make", ("led", "c", "d")), ("make", ("order", "a", "e")))
+                if not any(row_end(r, one)):
+                    house.make(("home", "a"))
+                rows = {name: put_by_hand(book, row) for name, row in house.names()}
+                promises = house.promises()
+                self.assertIsNone(house.by_book(book))
+                self.is_told(house, rows, promises)
 
     def test_leave(self):
         house = done(House(2), ("put", "a", LOOP), ("put", "b", LOOP), ("put", "c", ()), ("make", ("home", "a")), ("make", ("alike", "a", "b")), ("make", ("home", "c")),
